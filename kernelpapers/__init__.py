@@ -1,0 +1,1 @@
+"""Kernelpapers: a small prover whose kernel believes nothing."""

@@ -1,0 +1,100 @@
+"""Rules of the language that can be seen from the files: sizes, signs, imports, builtins, and the interface."""
+
+import ast
+import builtins
+import inspect
+import unittest
+from importlib import import_module
+from pathlib import Path
+
+FOLDER = Path(__file__).resolve().parent.parent / "kernelpapers"
+FILES = sorted(FOLDER.rglob("*.py"))
+BUILTINS = set(
+    "len range enumerate zip min max sum abs sorted reversed int str bool list tuple dict set isinstance ord repr any all "
+    "divmod Exception ValueError TypeError KeyError IndexError LookupError NotImplemented".split())
+BARRED = set("register mro elements open input law typing enum Enum namedtuple compile eval exec exit dir id vars".split())
+INTERFACE = {
+    "terms": {
+        "is_whole": "(thing, low, high)", "is_name": "(thing)", "is_term": "(thing)", "is_spot": "(thing)",
+        "parts": "(term)", "part_at": "(term, spot)", "binders_at": "(term, spot)", "spots": "(term)",
+        "changed": "(term, spot, other)", "size": "(term)", "free": "(term)", "raised": "(term, by=1, start=0)",
+        "giving": "(term, other, number=0)", "lowered": "(term)", "applied": "(head, some)", "opened": "(term)",
+    },
+    "things": {
+        "is_row": "(thing)", "ungrown": "(row)", "owns": "(row, maker)", "thing_saying": "(row)",
+        "maker_saying": "(row, maker)", "eater_saying": "(row, height)",
+    },
+}
+
+
+def trees():
+    return [(path, path.read_text(encoding="utf-8"), ast.parse(path.read_text(encoding="utf-8"))) for path in FILES]
+
+
+class Files(unittest.TestCase):
+    def test_the_folder_holds_nothing_else(self):
+        for path in FOLDER.rglob("*"):
+            if path.name != "__pycache__" and path.parent.name != "__pycache__":
+                self.assertTrue(path.is_dir() or path.suffix == ".py", path)
+
+    def test_lines_and_signs(self):
+        for path, text, _ in trees():
+            lines = text.splitlines()
+            self.assertLessEqual(len(lines), 399, path)
+            for line in lines:
+                self.assertLessEqual(len(line), 120, (path, line))
+            self.assertTrue(all(" " <= sign <= "~" or sign == "\n" for sign in text), path)
+
+    def test_functions_have_at_most_forty_lines(self):
+        for path, _, tree in trees():
+            for node in ast.walk(tree):
+                if isinstance(node, ast.FunctionDef):
+                    self.assertLessEqual(node.end_lineno - node.lineno + 1, 40, (path, node.name))
+
+    def test_imports_name_the_files_of_the_package(self):
+        for path, _, tree in trees():
+            for node in ast.walk(tree):
+                self.assertNotIsInstance(node, ast.Import, path)
+                if isinstance(node, ast.ImportFrom):
+                    self.assertIn(node, tree.body, path)
+                    self.assertTrue(node.module.startswith("kernelpapers."), path)
+                    self.assertEqual(node.level, 0)
+                    home = import_module(node.module)
+                    for name in node.names:
+                        thing = getattr(home, name.name)
+                        self.assertEqual(getattr(thing, "__module__", node.module), node.module, (path, name.name))
+
+    def test_names(self):
+        for path, _, tree in trees():
+            own = {node.name for node in tree.body if isinstance(node, (ast.FunctionDef, ast.ClassDef))}
+            taken = {name.name for node in tree.body if isinstance(node, ast.ImportFrom) for name in node.names}
+            for node in ast.walk(tree):
+                if isinstance(node, ast.Name):
+                    self.assertNotIn(node.id, BARRED, path)
+                    if isinstance(node.ctx, ast.Store):
+                        self.assertNotIn(node.id, BUILTINS | own | taken, path)
+                    elif node.id in vars(builtins):
+                        self.assertIn(node.id, BUILTINS, path)
+                if isinstance(node, ast.arg):
+                    self.assertNotIn(node.arg, BUILTINS | BARRED | own | taken, path)
+
+    def test_no_numbers_with_a_point(self):
+        for path, _, tree in trees():
+            for node in ast.walk(tree):
+                self.assertNotIsInstance(node, ast.Div, path)
+                if isinstance(node, ast.Constant):
+                    self.assertNotIsInstance(node.value, float, path)
+
+
+class Interface(unittest.TestCase):
+    def test_names_and_arguments(self):
+        for file, functions in INTERFACE.items():
+            module = import_module(f"kernelpapers.{file}")
+            for name, arguments in functions.items():
+                function = getattr(module, name)
+                self.assertEqual(str(inspect.signature(function)), arguments, name)
+                self.assertEqual(function.__module__, module.__name__, name)
+
+
+if __name__ == "__main__":
+    unittest.main()
