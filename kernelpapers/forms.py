@@ -141,6 +141,22 @@ def given_at(term, other, number):
     return turned(term, turn)
 
 
+def given_room(term, others, inward):
+    """The term with the others in the places of its room, the last one the nearest.
+
+    So many places inward of that room stay as they are; what is beyond the room is so much less.
+    """
+    def turn(place, above):
+        at = place - above - inward
+        if at < 0:
+            return None
+        if at < len(others):
+            return raised_by(others[-1 - at], above + inward, 0)
+        return ("at", place - len(others))
+
+    return turned(term, turn)
+
+
 def lowered_once(term):
     """The term with each free place one less, or None where 0 is one of them."""
     if 0 in free_places(term):
@@ -169,9 +185,19 @@ def head_and_given(term):
 
 def all_of(sayings, term):
     """All of the first saying of all of the second one, and so on, of the term."""
+    return _bound("all", sayings, term)
+
+
+def fun_of(sayings, term):
+    """Fun of the first saying of fun of the second one, and so on, of the term."""
+    return _bound("fun", sayings, term)
+
+
+def _bound(word, sayings, term):
+    """The term behind a binder of this word for each saying, the first one outermost."""
     made = term
     for saying in reversed(sayings):
-        made = ("all", saying, made)
+        made = (word, saying, made)
     return made
 
 

@@ -88,6 +88,12 @@ NO_TERMS = NOTHINGS + [
     ("put", A, A), ("put", A, A, A, A), ("put", A, A, ("put", A, A)), ("all", A, ("fun", A, ("app", A, ("kind", 6)))),
     (["at"], 0), ["all", A, A], [A, A], (A,), (A, A),
 ]
+# As grounds they are wrong, what a ground is made of too.
+NO_GROUNDS = NOTHINGS + [0, 1, "nat", (), ("thing", "nat", 0, (), ()), [("thing", "nat", 0, (), ())], ("at", 0)]
+# As rooms they are wrong: what is no list or tuple, what has other things than terms, and what has thirteen.
+NO_ROOMS = [thing for thing in NOTHINGS if thing not in ([], [("at", 0)])]
+NO_ROOMS += [0, "kind", {}, ("kind", 0), [("kind", 0), None], (("at", 0), ["at", 0]), [[("kind", 0)]], [("kind", 6)], [()],
+             [("kind", 0)] * 13, (("kind", 0),) * 13, [("kind", 0)] * 100]
 NO_WHOLES = NOTHINGS + ["0", (), (0,), ("at", 0), nested("tuple", 60)]
 
 
@@ -99,6 +105,18 @@ def refused(case, error, thing, deed, *given, **more):
     case.assertIs(caught.exception.found, thing)
     case.assertIsInstance(caught.exception, PaperError)
     case.assertIsInstance(caught.exception, ValueError)
+
+
+def refused_as(case, family, error, fields, deed, *given, **more):
+    """The deed is refused with just this error of this family, whose fields are equal to these."""
+    with case.assertRaises(error) as caught:
+        deed(*given, **more)
+    case.assertIs(caught.exception.__class__, error)
+    case.assertEqual(error.__bases__, (family,))
+    for field, thing in fields.items():
+        told = getattr(caught.exception, field)
+        case.assertEqual(told, thing)
+        case.assertIs(told.__class__, thing.__class__)
 
 
 # Rows of the three sorts.

@@ -24,6 +24,27 @@ INTERFACE = {
         "is_row": "(thing)", "ungrown": "(row)", "owns": "(row, maker)", "thing_saying": "(row)",
         "maker_saying": "(row, maker)", "eater_saying": "(row, height)",
     },
+    "steps": {
+        "steps": "(ground, term)", "stepped": "(ground, term, spot)", "worked": "(ground, term, most=3000)",
+        "told_way": "(ground, term, most=3000)", "alike": "(ground, one, other)", "meeting": "(ground, term, one, other)",
+    },
+    "kernel": {
+        "saying_of": "(ground, room, term)", "settles": "(ground, room, term, saying)", "unsound": "(ground)",
+        "unsound_room": "(ground, room)",
+    },
+    "worths": {
+        "saying_by_worths": "(ground, room, term)", "worked_by_worths": "(ground, term)", "giver": "(ground, term)",
+    },
+}
+CLASSES = {
+    ("grounds", "Ground"): {
+        "__init__": "(self, rows=None)", "rows": "(self)", "names": "(self)", "has": "(self, thing)", "told": "(self, name)",
+        "with_row": "(self, row)", "__len__": "(self)", "__eq__": "(self, other)",
+    },
+    ("worths", "Worth"): {
+        "__init__": "(self, ground, term)", "term": "(self)", "saying": "(self)", "ground": "(self)", "to": "(self, other)",
+        "__eq__": "(self, other)",
+    },
 }
 
 
@@ -94,6 +115,13 @@ class Interface(unittest.TestCase):
                 function = getattr(module, name)
                 self.assertEqual(str(inspect.signature(function)), arguments, name)
                 self.assertEqual(function.__module__, module.__name__, name)
+
+    def test_classes_and_their_own_methods(self):
+        for (file, name), methods in CLASSES.items():
+            made = getattr(import_module(f"kernelpapers.{file}"), name)
+            self.assertEqual(made.__module__, f"kernelpapers.{file}")
+            for method, arguments in methods.items():
+                self.assertEqual(str(inspect.signature(vars(made)[method])), arguments, (name, method))
 
 
 if __name__ == "__main__":
