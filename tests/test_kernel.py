@@ -1,7 +1,7 @@
 """Points 41 to 43: the sayings of the twelve words, the least spot and the word where a term fails."""
 
 import unittest
-from kernelpapers.errors import NoGround, NoPaper, NoRoom, NoTerm, PaperError
+from kernelpapers.errors import NoGround, NoPaper, NoRoom, NoTerm, PaperError, Tired
 from kernelpapers.grounds import Ground
 from kernelpapers.kernel import saying_of, settles
 from kernelpapers.terms import changed, raised, size
@@ -407,6 +407,17 @@ class Rooms(Checked):
         for _ in range(30):
             term, told = fun(NAT, term), every(NAT, told)
         self.says([NAT] * 12, term, told)
+
+
+class WithoutEnd(unittest.TestCase):
+    """Nothing is promised of what goes on for ever; but the kernel gives up, as the readme says."""
+
+    def test_a_name_that_means_itself(self):
+        ground = Ground([("mean", "loop", kind(1), ("name", "loop"))])
+        self.assertEqual(saying_of(ground, [], ("name", "loop")), kind(1))
+        for term in (("self", kind(1), ("name", "loop")), fun(("name", "loop"), A)):
+            with self.assertRaises(Tired):
+                saying_of(ground, [], term)
 
 
 class Large(Checked):
