@@ -60,6 +60,27 @@ def reached(term, spot):
     return part, above
 
 
+def stood_of(term, other):
+    """Where the other term, raised by the binders above, stands in a term: a list of spots, each with these binders.
+
+    Of those within one another it is the outermost one.
+    """
+    found = []
+    others = {}
+    waiting = [(term, (), 0)]
+    while waiting:
+        part, spot, above = waiting.pop()
+        if above not in others:
+            others[above] = raised_by(other, above, 0)
+        if part == others[above]:
+            found.append((spot, above))
+            continue
+        below = parts_of(part)
+        for at in reversed(range(len(below))):
+            waiting.append((below[at], (*spot, at), above + passed(part[0], at)))
+    return found
+
+
 def with_part(term, spot, other):
     """The term with the other one at the spot."""
     way = []

@@ -1,6 +1,7 @@
 """Grounds: what is told of names. And what is refused as a ground or as a room."""
 
 from kernelpapers.errors import Doubled, NoGround, NoRoom, NoRow, NoThing
+from kernelpapers.forms import head_and_given
 from kernelpapers.terms import is_name, is_term
 from kernelpapers.things import is_row, own_arguments
 
@@ -90,6 +91,15 @@ def ground_of(rows):
     for row in rows:
         ground._take(row)
     return ground
+
+
+def thing_given(ground, term):
+    """The row of a thing of the ground and its bounds, where a term is the thing given its bounds; else None."""
+    head, given = head_and_given(term)
+    row = ground.row_of(head[1], "thing") if head[0] == "thing" else None
+    if row is None or len(given) != len(row[3]):
+        return None
+    return row, given
 
 
 def want_ground(thing):

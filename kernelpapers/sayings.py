@@ -86,7 +86,7 @@ class Kernel:
         if word == "fun":
             return ("all", look.kept, look.sayings[1])
         if word == "app":
-            return self._given(look.sayings[0][2], part[2])
+            return self.given(look.sayings[0][2], part[2])
         if word == "same":
             return look.sayings[0]
         if word == "self":
@@ -96,7 +96,7 @@ class Kernel:
             return self.worked(("app", part[1], look.sayings[1][3]))
         return self._saying_of_leaf(look)
 
-    def _given(self, saying, term):
+    def given(self, saying, term):
         """A saying behind a binder, worked out, given a term; worked out."""
         without = lowered_once(saying)
         if without is not None:

@@ -35,6 +35,11 @@ INTERFACE = {
     "worths": {
         "saying_by_worths": "(ground, room, term)", "worked_by_worths": "(ground, term)", "giver": "(ground, term)",
     },
+    "texts": {
+        "show": "(term, names=0)", "read": "(text, names=0)", "show_ground": "(ground)", "read_ground": "(text)",
+    },
+    "deeds": {"is_deed": "(thing)", "done_at": "(ground, room, saying, deed)"},
+    "search": {"search": "(ground, room, saying, depth=3)"},
 }
 CLASSES = {
     ("grounds", "Ground"): {
@@ -45,7 +50,17 @@ CLASSES = {
         "__init__": "(self, ground, term)", "term": "(self)", "saying": "(self)", "ground": "(self)", "to": "(self, other)",
         "__eq__": "(self, other)",
     },
+    ("work", "Work"): {
+        "__init__": "(self, ground, saying, room=None)", "ground": "(self)", "holes": "(self)", "goal": "(self, hole)",
+        "deed": "(self, hole)", "left": "(self, hole)", "filled": "(self)", "do": "(self, hole, deed)", "undo": "(self, hole)",
+        "paper": "(self)", "twin": "(self)", "put_back": "(self, other)", "__len__": "(self)", "__eq__": "(self, other)",
+    },
 }
+# The methods of Python's own values that may be called.
+METHODS = set(
+    "append clear copy count endswith extend find get index insert isalnum isalpha isdigit islower isspace isupper items join "
+    "keys ljust lower lstrip partition pop remove replace reverse rfind rjust rpartition rsplit rstrip setdefault split "
+    "splitlines startswith strip update upper values zfill".split())
 
 
 def trees():
@@ -98,6 +113,63 @@ class Files(unittest.TestCase):
                         self.assertIn(node.id, BUILTINS, path)
                 if isinstance(node, ast.arg):
                     self.assertNotIn(node.arg, BUILTINS | BARRED | own | taken, path)
+
+    def test_no_name_of_a_builtin_is_given_another_meaning(self):
+        for path, _, tree in trees():
+            for node in ast.walk(tree):
+                if isinstance(node, ast.Name) and isinstance(node.ctx, ast.Store):
+                    self.assertNotIn(node.id, vars(builtins), path)
+                if isinstance(node, (ast.FunctionDef, ast.ClassDef)) and not node.name.startswith("__"):
+                    self.assertNotIn(node.name, vars(builtins), path)
+                if isinstance(node, ast.arg):
+                    self.assertNotIn(node.arg, vars(builtins), path)
+
+    def test_methods_that_are_called(self):
+        own = {node.name for _, _, tree in trees() for node in ast.walk(tree) if isinstance(node, ast.FunctionDef)}
+        for path, _, tree in trees():
+            for node in ast.walk(tree):
+                if isinstance(node, ast.Call) and isinstance(node.func, ast.Attribute):
+                    self.assertIn(node.func.attr, METHODS | own, path)
+                    self.assertFalse(node.func.attr in METHODS and node.keywords, (path, node.func.attr))
+
+    def test_no_name_is_a_method_and_an_attribute(self):
+        methods, attributes = {}, {}
+        for path, _, tree in trees():
+            for made in [node for node in tree.body if isinstance(node, ast.ClassDef)]:
+                methods.update({node.name: path for node in made.body if isinstance(node, ast.FunctionDef)})
+                attributes.update({node.attr: path for node in ast.walk(made)
+                                   if isinstance(node, ast.Attribute) and isinstance(node.ctx, ast.Store)})
+        self.assertEqual(set(methods) & set(attributes), set())
+
+    def test_words_of_python_that_are_not_used(self):
+        barred = (ast.GeneratorExp, ast.Set, ast.SetComp, ast.Global, ast.AsyncFunctionDef, ast.Await, ast.Yield, ast.YieldFrom,
+                  ast.NamedExpr, ast.AsyncFor)
+        for path, _, tree in trees():
+            for node in ast.walk(tree):
+                self.assertNotIsInstance(node, barred, path)
+                if isinstance(node, ast.Compare):
+                    for sign, other in zip(node.ops, node.comparators):
+                        if isinstance(sign, (ast.Is, ast.IsNot)):
+                            self.assertTrue(isinstance(other, ast.Constant) and other.value in (None, True, False), path)
+                if isinstance(node, ast.Constant) and isinstance(node.value, str):
+                    self.assertNotIn("%", node.value, path)
+                if isinstance(node, (ast.FunctionDef, ast.ClassDef)) and not isinstance(node, ast.Lambda):
+                    self.assertEqual(node.decorator_list, [], path)
+                if isinstance(node, ast.Raise) and node.exc is not None:
+                    self.assertIsInstance(node.exc, ast.Call, path)
+                    self.assertFalse(any(isinstance(arg, ast.Starred) for arg in node.exc.args), path)
+
+    def test_no_two_files_import_from_each_other(self):
+        wants = {path.stem: {node.module.split(".")[-1] for node in tree.body if isinstance(node, ast.ImportFrom)}
+                 for path, _, tree in trees()}
+        for file in wants:
+            seen, waiting = set(), [file]
+            while waiting:
+                for other in wants[waiting.pop()]:
+                    self.assertNotEqual(other, file)
+                    if other not in seen:
+                        seen.add(other)
+                        waiting.append(other)
 
     def test_no_numbers_with_a_point(self):
         for path, _, tree in trees():

@@ -1,5 +1,6 @@
 """The examples of README.md run as they stand, and tell what is written behind them."""
 
+import ast
 import unittest
 from pathlib import Path
 
@@ -12,19 +13,27 @@ def examples():
     return [line[4:] for line in lines if line.startswith("    ") and ".ci/run" not in line and "PYTHONPATH" not in line]
 
 
+def wanted(comment, names):
+    """What a comment tells behind an example, up to a colon where it says more."""
+    try:
+        return eval(comment, names)
+    except SyntaxError:
+        return eval(comment.partition(":")[0], names)
+
+
 class Readme(unittest.TestCase):
     def test_examples(self):
+        lines = examples()
         names = {}
-        exec("\n".join(examples()), names)
         told = 0
-        for line in examples():
-            asked, mark, answer = line.partition("  # ")
-            # What stands within a try can't be asked alone.
-            if mark and not line.startswith(" ") and answer.startswith(("(", "True", "None")):
-                wanted = answer.partition(":")[0]
-                self.assertEqual(eval(asked, names), eval(wanted, names), line)
+        for node in ast.parse("\n".join(lines)).body:
+            comment = lines[node.end_lineno - 1].partition("  # ")[2].strip()
+            if isinstance(node, ast.Expr) and comment.startswith(("(", "[", '"', "True", "None")):
+                self.assertEqual(eval(ast.unparse(node.value), names), wanted(comment, names), lines[node.lineno - 1])
                 told += 1
-        self.assertGreater(told, 6)
+            else:
+                exec(ast.unparse(node), names)
+        self.assertGreater(told, 14)
 
 
 if __name__ == "__main__":
