@@ -128,10 +128,10 @@ def _used(goal, head, saying, some, told):
     def paper(papers):
         given = []
         used = 0
-        for thing in some:
-            if thing is None:
+        for one in some:
+            if one is None:
                 used += 1
-            given.append(papers[used - 1] if thing is None else thing)
+            given.append(papers[used - 1] if one is None else one)
         return given_all(head, given)
 
     return asked, paper

@@ -23,6 +23,19 @@ class Second:
         sayings = [Later(saying, self._all_places(at)) for at, saying in enumerate(room)]
         return self._term_of(looked_through(self, sayings, term), len(room))
 
+    def kind_in(self, room, saying):
+        """The height of the kind that a term has in a room; refused where it has another saying or none."""
+        told = self.saying_in(room, saying)
+        if told[0] != "kind":
+            raise NoPaper((), "kind")
+        return told[1]
+
+    def want_saying(self, room, term, saying):
+        """Refuses a term that hasn't the saying, of a kind, in the room."""
+        wanted = self._term_of(Later(saying, self._all_places(len(room))), len(room))
+        if self.saying_in(room, term) != wanted:
+            raise NoPaper((), "unlike")
+
     def worked(self, term):
         """A term that has a saying in no room, worked out."""
         return self._term_of(Later(term, ()), 0)

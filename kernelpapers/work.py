@@ -121,15 +121,12 @@ class Work:
         return self.holes()
 
     def mark(self):
-        """All by which it can be made as it is now."""
+        """All by which it can be made, once, as it is now."""
         return dict(self._goals), dict(self._filled), self._number
 
     def back_to(self, mark):
-        """Makes it as it was at a mark."""
-        goals, filled, number = mark
-        self._goals = dict(goals)
-        self._filled = dict(filled)
-        self._number = number
+        """Makes it as it was at a mark, to which it isn't made again."""
+        self._goals, self._filled, self._number = mark
 
     def __len__(self):
         return len(self.holes())

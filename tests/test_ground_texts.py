@@ -105,7 +105,8 @@ class Read(unittest.TestCase):
                      "mean a : = nat", "mean a : nat =", "mean a : nat = nat = nat", "mean a : nat == nat", "mean A : nat = nat",
                      "mean put : nat = nat", "mean a : x0 = nat", "mean a : nat = x0", "mean a : nat = nat )", "mean a : (nat = nat)",
                      "mean : nat = nat", "hold", "hold a", "hold a :", "hold a nat", "hold a : nat = nat", "hold a : x0", "hold a : nat )",
-                     "hold a: nat", "hold a :nat", "hold fun : nat", "hold : nat", "Thing nat 0", "bound", "maker", "arg", "hold a : nat nat#00"]:
+                     "hold a: nat", "hold a :nat", "hold a nat nat", "hold a = nat", "mean a nat nat = nat",
+                     "mean a = nat = nat", "means a : nat = nat", "holds a : nat", "name a : nat", "Mean a : nat = nat", "hold fun : nat", "hold : nat", "Thing nat 0", "bound", "maker", "arg", "hold a : nat nat#00"]:
             # (The text without signs has no rows.)
             no_line(self, 0, line + "\nthing nat 0")
             no_line(self, 1, AXIOM_LINE + "\n" + line)

@@ -11,7 +11,7 @@ FOLDER = Path(__file__).resolve().parent.parent / "kernelpapers"
 FILES = sorted(FOLDER.rglob("*.py"))
 BUILTINS = set(
     "len range enumerate zip min max sum abs sorted reversed int str bool list tuple dict set isinstance ord repr any all "
-    "divmod Exception ValueError TypeError KeyError IndexError LookupError NotImplemented".split())
+    "divmod super Exception ValueError TypeError KeyError IndexError LookupError NotImplemented".split())
 BARRED = set("register mro elements open input law typing enum Enum namedtuple compile eval exec exit dir id vars".split())
 INTERFACE = {
     "terms": {
@@ -40,6 +40,11 @@ INTERFACE = {
     },
     "deeds": {"is_deed": "(thing)", "done_at": "(ground, room, saying, deed)"},
     "search": {"search": "(ground, room, saying, depth=3)"},
+    "scripts": {"is_script": "(thing)", "run": "(work, hole, deeds)", "otherwise": "(deeds)"},
+    "short": {
+        "shortenings": "(ground, room, paper)", "is_short": "(ground, room, paper)", "shortened": "(ground, room, paper)",
+        "shorten": "(shelf, name)",
+    },
 }
 CLASSES = {
     ("grounds", "Ground"): {
@@ -55,6 +60,15 @@ CLASSES = {
         "deed": "(self, hole)", "left": "(self, hole)", "filled": "(self)", "do": "(self, hole, deed)", "undo": "(self, hole)",
         "paper": "(self)", "twin": "(self)", "put_back": "(self, other)", "__len__": "(self)", "__eq__": "(self, other)",
     },
+    ("shelf", "Shelf"): {
+        "__init__": "(self)", "tell": "(self, row)", "mean": "(self, name, saying, term)",
+        "settle": "(self, name, saying, paper)", "settle_by": "(self, name, saying, deeds)", "names": "(self)", "stale": "(self)",
+        "ground": "(self)", "saying": "(self, name)", "paper": "(self, name)", "script": "(self, name)", "leans": "(self, name)",
+        "above": "(self, name)", "rename": "(self, name, other)", "change": "(self, name, saying, paper)", "renew": "(self, name)",
+        "out": "(self, name)", "good": "(self)", "ground_ahead": "(self, name)", "is_meaning": "(self, name)",
+        "set_paper": "(self, name, paper)", "twin": "(self)", "__len__": "(self)", "__eq__": "(self, other)",
+    },
+    ("desk", "Desk"): {"__init__": "(self)", "say": "(self, line)", "shelf": "(self)", "work": "(self)"},
 }
 # The methods of Python's own values that may be called.
 METHODS = set(

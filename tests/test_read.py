@@ -38,6 +38,11 @@ class Read(unittest.TestCase):
             no_sign(self, 0, f"x{names}", names)
         self.assertEqual(read(names=3, text="x0 x1 x2"), app(C, B, A))
 
+    def test_names_left_out(self):
+        self.assertEqual(read("fun x0 : nat . x0"), fun(NAT, A))
+        refused_as(self, PaperError, NoSign, {"at": 0}, read, "x0")
+        refused_as(self, PaperError, NoSign, {"at": 3}, read, text="fun x0 : x0 . x0")
+
     def test_binders_of_any_number(self):
         self.assertEqual(read("fun x999 : nat . x999"), fun(NAT, A))
         self.assertEqual(read("fun x10 : nat . fun x9 : x10 . x9 x10"), fun(NAT, fun(A, app(A, B))))

@@ -28,12 +28,12 @@ class Readme(unittest.TestCase):
         told = 0
         for node in ast.parse("\n".join(lines)).body:
             comment = lines[node.end_lineno - 1].partition("  # ")[2].strip()
-            if isinstance(node, ast.Expr) and comment.startswith(("(", "[", '"', "True", "None")):
+            if isinstance(node, ast.Expr) and comment.startswith(("(", "[", '"', "True", "None", "1", "2", "3", "4")):
                 self.assertEqual(eval(ast.unparse(node.value), names), wanted(comment, names), lines[node.lineno - 1])
                 told += 1
             else:
                 exec(ast.unparse(node), names)
-        self.assertGreater(told, 14)
+        self.assertGreater(told, 35)
 
 
 if __name__ == "__main__":
