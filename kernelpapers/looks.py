@@ -16,8 +16,10 @@ class Look:
         self.kept = None
 
 
-def looked_through(checker, room, term):
+def looked_through(checker, room, term, notes=None):
     """The saying of a term in a room, both as the checker has sayings; refused where a part fails.
+
+    Where there are notes, a dict, they have of each spot the saying of the part there and the room in which it stands.
 
     The checker is asked behind each part whether its saying is as it must be (`behind_binder` and so on),
     for the room behind the binder of a look (`within`), and for the saying of a look of which all parts
@@ -33,6 +35,8 @@ def looked_through(checker, room, term):
             looks.append(Look(below[at], (*look.spot, at), inner))
             continue
         saying = checker.saying_at(look)
+        if notes is not None:
+            notes[look.spot] = (saying, look.room)
         looks.pop()
         if not looks:
             return saying

@@ -14,9 +14,9 @@ class Kernel:
         self._ground = ground
         self._of_heads = {}
 
-    def saying_in(self, room, term):
-        """The saying of a term in a room; refused where a part fails."""
-        return looked_through(self, [self.worked(saying) for saying in room], term)
+    def saying_in(self, room, term, notes=None):
+        """The saying of a term in a room; refused where a part fails. Those of its parts are put into notes."""
+        return looked_through(self, [self.worked(saying) for saying in room], term, notes)
 
     def kind_in(self, room, term):
         """The height of the kind that a term has in a room; refused where it has another saying or none."""

@@ -6,25 +6,11 @@ from kernelpapers.rules import become, rule_of
 from kernelpapers.sayings import Kernel
 
 
-class Noting(Kernel):
-    """A kernel that notes the saying of each part at which it looks, and the room in which the part stands."""
-
-    def __init__(self, ground):
-        Kernel.__init__(self, ground)
-        self.notes = {}
-
-    def saying_at(self, look):
-        """The saying of what is looked at, whose parts have theirs."""
-        saying = super().saying_at(look)
-        self.notes[look.spot] = (saying, look.room)
-        return saying
-
-
 def noted(ground, room, paper):
     """By each spot of a paper: the saying of the part there and the room in which it stands, both worked out."""
-    noting = Noting(ground)
-    noting.saying_in(room, paper)
-    return noting.notes
+    notes = {}
+    Kernel(ground).saying_in(room, paper, notes)
+    return notes
 
 
 def other_parts(ground, paper, notes):

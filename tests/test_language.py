@@ -11,7 +11,7 @@ FOLDER = Path(__file__).resolve().parent.parent / "kernelpapers"
 FILES = sorted(FOLDER.rglob("*.py"))
 BUILTINS = set(
     "len range enumerate zip min max sum abs sorted reversed int str bool list tuple dict set isinstance ord repr any all "
-    "divmod super Exception ValueError TypeError KeyError IndexError LookupError NotImplemented".split())
+    "divmod Exception ValueError TypeError KeyError IndexError LookupError NotImplemented".split())
 BARRED = set("register mro elements open input law typing enum Enum namedtuple compile eval exec exit dir id vars".split())
 INTERFACE = {
     "terms": {

@@ -117,6 +117,8 @@ class Run(unittest.TestCase):
             run(self.work, hole, script)
         self.assertEqual(self.work, ahead)
         self.assertEqual(self.work.holes(), ahead.holes())
+        for left in range(self.work.mark()[2], 30):
+            no_hole(self, left, self.work.goal, left)
         twin, other = self.work.twin(), ahead.twin()
         self.assertEqual(twin.do(hole, PLUS), other.do(hole, PLUS))
         return caught.exception

@@ -323,6 +323,10 @@ class Twins(unittest.TestCase):
         self.assertEqual((work.holes(), other.holes()), ([1, 5], [5, 6, 2]))
         other.undo(0)
         self.assertEqual((work.holes(), other.holes()), ([1, 5], [0]))
+        self.assertEqual([work.goal(hole) for hole in (1, 5)], [([], NAT)] * 2)
+        for hole in (1, 2, 5, 6):
+            no_hole(self, hole, other.goal, hole)
+        no_hole(self, 6, work.goal, 6)
 
     def test_put_back(self):
         work = self.begun()
@@ -331,6 +335,12 @@ class Twins(unittest.TestCase):
         work.do(2, USE)
         self.assertEqual(work.put_back(ahead), [1, 2])
         self.assertEqual(work, ahead)
+        # What was left since is there no more.
+        for hole in range(3, 9):
+            for deed in (work.goal, work.deed, work.left, work.undo):
+                no_hole(self, hole, deed, hole)
+            no_hole(self, hole, work.do, hole, give(ZERO))
+        self.assertEqual([work.goal(hole) for hole in (1, 2)], [([], NAT)] * 2)
         # Numbers given since are given again.
         self.assertEqual(work.do(1, USE), [5, 6])
         self.assertEqual((ahead.holes(), ahead.filled()), ([1, 2], [(0, USE, [1, 2])]))
